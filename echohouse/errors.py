@@ -1,0 +1,119 @@
+"""The refusals: one class for each, and the short word that each tells of itself."""
+
+
+class EchoError(ValueError):
+    """Any refusal; made of a text."""
+
+    def word(self):
+        return "refused"
+
+
+class NoFraction(EchoError):
+    """What was to be read is not written as a fraction is."""
+
+    def word(self):
+        return "no fraction"
+
+
+class NoTable(EchoError):
+    """What was handed in is not the table that is asked for."""
+
+    def word(self):
+        return "no table"
+
+
+class NoFit(EchoError):
+    """What was handed in does not fit the thing that it is for."""
+
+    def word(self):
+        return "no fit"
+
+
+class NoTurns(EchoError):
+    """The turns, or how many they are, can not be taken."""
+
+    def word(self):
+        return "no turns"
+
+
+class TooMany(EchoError):
+    """There are more parts or cells than there may be."""
+
+    def word(self):
+        return "too many"
+
+
+class Flat(EchoError):
+    """A table has no inverse; numbers is a row that shows it."""
+
+    def __init__(self, numbers):
+        self.numbers = list(numbers)
+
+    def word(self):
+        return "flat"
+
+
+class NoText(EchoError):
+    """A row of a text tells no part; place is that row's number."""
+
+    def __init__(self, place):
+        self.place = place
+
+    def word(self):
+        return "no text"
+
+
+class NoPart(EchoError):
+    """A name is wanted that no part has."""
+
+    def __init__(self, name):
+        self.name = name
+
+    def word(self):
+        return "no part"
+
+
+class Twice(EchoError):
+    """Two rows have the same name."""
+
+    def __init__(self, name):
+        self.name = name
+
+    def word(self):
+        return "twice"
+
+
+class Ring(EchoError):
+    """Gains and sums want one another in a ring; names is that ring."""
+
+    def __init__(self, names):
+        self.names = list(names)
+
+    def word(self):
+        return "ring"
+
+
+class NoLine(EchoError):
+    """What was said is no line that can be answered; line is what was said."""
+
+    def __init__(self, line):
+        self.line = copied(line, 8)
+
+    def word(self):
+        return "no line"
+
+
+def copied(thing, depth):
+    """An equal thing whose lists and dicts are its own, so many nests deep.
+
+    The depth is bounded because a line may be anything, also a list that holds itself.
+    """
+    if depth == 0:
+        return thing
+    if isinstance(thing, list):
+        return [copied(inner, depth - 1) for inner in thing]
+    if isinstance(thing, tuple):
+        return tuple([copied(inner, depth - 1) for inner in thing])
+    if isinstance(thing, dict):
+        return {key: copied(inner, depth - 1) for key, inner in thing.items()}
+    return thing
