@@ -1,5 +1,8 @@
 """The refusals: one class for each, and the short word that each tells of itself."""
 
+# A line may be anything, also a list that holds itself; without a bound its copy would never end.
+MOST_OPENED = 1000000
+
 
 class EchoError(ValueError):
     """Any refusal; made of a text."""
@@ -97,23 +100,40 @@ class NoLine(EchoError):
     """What was said is no line that can be answered; line is what was said."""
 
     def __init__(self, line):
-        self.line = copied(line, 8)
+        self.line = copied(line)
 
     def word(self):
         return "no line"
 
 
-def copied(thing, depth):
-    """An equal thing whose lists and dicts are its own, so many nests deep.
+def copied(thing):
+    """An equal thing whose lists and dicts are its own, however deep they nest."""
+    # Turn by turn, not by calls within calls, which go only so deep.
+    met, ends = [thing], [1]
+    opened = 0
+    while len(ends) <= len(met):
+        inner = inner_things(met[len(ends) - 1]) if opened < MOST_OPENED else []
+        if inner:
+            opened += 1
+        met.extend(inner)
+        ends.append(len(met))
+    many = len(met)
+    # What lies within a thing was met behind it, so the last ones are made first.
+    for at in reversed(range(many)):
+        met[at] = made_again(met[at], met[ends[at]:ends[at + 1]])
+    return met[0]
 
-    The depth is bounded because a line may be anything, also a list that holds itself.
-    """
-    if depth == 0:
-        return thing
-    if isinstance(thing, list):
-        return [copied(inner, depth - 1) for inner in thing]
-    if isinstance(thing, tuple):
-        return tuple([copied(inner, depth - 1) for inner in thing])
+
+def inner_things(thing):
     if isinstance(thing, dict):
-        return {key: copied(inner, depth - 1) for key, inner in thing.items()}
-    return thing
+        return list(thing.values())
+    return list(thing) if isinstance(thing, (list, tuple)) else []
+
+
+def made_again(thing, inner):
+    """The list, tuple or dict with these things in it; any other thing, and one that was not opened, as it is."""
+    if not isinstance(thing, (list, tuple, dict)) or len(thing) != len(inner):
+        return thing
+    if isinstance(thing, dict):
+        return {key: value for key, value in zip(thing, inner)}
+    return tuple(inner) if isinstance(thing, tuple) else inner

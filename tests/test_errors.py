@@ -1,6 +1,7 @@
 """Point 12: the refusals."""
 
 import unittest
+from copy import deepcopy
 
 from echohouse import errors
 from echohouse.errors import (
@@ -20,6 +21,19 @@ FIELDS = (
     (NoLine, "line", "boxes"), (NoLine, "line", ""), (NoLine, "line", None), (NoLine, "line", 5),
     (NoLine, "line", [["x"], {"a": [1]}]), (NoLine, "line", ("x", [1])), (NoLine, "line", {"a": ["b"]}),
 )
+
+
+def nested(inner, deep, kind):
+    """So many nests round a thing: lists, tuples, dicts, or all three."""
+    for turn in range(deep):
+        inner = ([inner, "beside"], ("beside", inner), {"at": inner})[turn % 3 if kind == 3 else kind]
+    return inner
+
+
+def unnested(thing, deep, kind):
+    for turn in reversed(range(deep)):
+        thing = thing[(0, 1, "at")[turn % 3 if kind == 3 else kind]]
+    return thing
 
 
 class Refusals(unittest.TestCase):
@@ -90,6 +104,40 @@ class Refusals(unittest.TestCase):
         self.assertEqual(flat.numbers, [(1, 2), (3, 1)])
         self.assertEqual(ring.names, ["a", "b"])
         self.assertEqual(no_line.line, [["x"], ("y", [1]), {"z": [2]}])
+
+    def test_a_line_is_kept_as_it_was_however_deep_it_nests(self):
+        for deep in (0, 1, 7, 8, 9, 40, 400, 5000, 100000):
+            for kind in range(4):
+                inner = ["x", {"y": [1]}]
+                line = nested(inner, deep, kind)
+                kept = NoLine(line).line
+                inner[1]["y"].append(2)
+                inner.append("more")
+                self.assertEqual(unnested(kept, deep, kind), ["x", {"y": [1]}])
+                self.assertEqual(unnested(line, deep, kind), ["x", {"y": [1, 2]}, "more"])
+                unnested(kept, deep, kind).clear()
+                self.assertEqual(len(inner), 3)
+
+    def test_a_line_of_many_things(self):
+        line = [[at, (at, [at]), {at: [at], (at, 1): at}, [], (), {}] for at in range(3000)]
+        kept = NoLine(line).line
+        self.assertEqual(kept, line)
+        before = deepcopy(line)
+        for row in line:
+            row[1][1].append(0)
+            row[2][row[0]].append(0)
+            row[3].append(0)
+            row[5]["new"] = 0
+        self.assertEqual(kept, before)
+        self.assertEqual([type(thing) for thing in kept[7]], [int, tuple, dict, list, tuple, dict])
+        self.assertEqual(list(NoLine({"b": 1, "a": [2], "c": (3,)}).line), ["b", "a", "c"])
+
+    def test_two_lists_of_a_line_are_two(self):
+        inner = [1]
+        kept = NoLine([inner, inner, (inner,)]).line
+        kept[0].append(2)
+        self.assertEqual(kept, [[1, 2], [1], ([1],)])
+        self.assertEqual(inner, [1])
 
     def test_what_is_handed_in_stays(self):
         numbers = [(1, 2)]
