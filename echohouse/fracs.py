@@ -1,5 +1,6 @@
 """Exact fractions, as tuples (top, bottom) in lowest terms, and their texts."""
 
+from echohouse.divisors import common
 from echohouse.errors import NoFraction
 
 NOUGHT = (0, 1)
@@ -16,14 +17,6 @@ def is_fraction(thing):
         return False
     top, bottom = thing
     return is_whole(top) and is_whole(bottom) and bottom >= 1 and common(top, bottom) == 1
-
-
-def common(one, other):
-    """The greatest whole number that divides both; 0 where both are 0."""
-    one, other = abs(one), abs(other)
-    while other != 0:
-        one, other = other, one % other
-    return one
 
 
 def frac(top, bottom):

@@ -1,6 +1,7 @@
 """Rows and tables of fractions: what they weigh, their sums, products and powers."""
 
-from echohouse.fracs import NOUGHT, ONE, common, frac, is_fraction, plus, times
+from echohouse.divisors import common
+from echohouse.fracs import NOUGHT, ONE, frac, is_fraction, plus, times
 
 
 def is_row(thing, many):
@@ -16,6 +17,15 @@ def weighed(one, other):
     for left, right in zip(one, other):
         total = plus(total, times(left, right))
     return total
+
+
+def applied(table, row):
+    """The table times the row."""
+    return [numbers[0] for numbers in product(table, [[number] for number in row], 1)]
+
+
+def is_nought(row):
+    return all([number == NOUGHT for number in row])
 
 
 def row_sum(one, other):
@@ -35,31 +45,38 @@ def table_scaled(by, table):
 
 
 def product(one, other, wide):
-    columns = turned(other, wide)
     lifted_rows = [lifted(row) for row in one]
-    lifted_columns = [lifted(column) for column in columns]
-    if None in lifted_rows or None in lifted_columns:
-        return [[weighed(row, column) for column in columns] for row in one]
+    lifted_columns = [lifted(column) for column in turned(other, wide)]
     return [[weighed_lifted(row, column) for column in lifted_columns] for row in lifted_rows]
 
 
 def lifted(row):
-    """The row as whole numbers and the one bottom below them all; None where that bottom is far too long."""
-    # Over one bottom a weighing is reckoned in whole numbers and brought to lowest terms but once;
-    # where the bottoms share little this no longer pays, for their product grows with each of them.
-    longest = max([bottom.bit_length() for top, bottom in row], default=1)
-    low = 1
-    for top, bottom in row:
-        low = low // common(low, bottom) * bottom
-        if low.bit_length() > 4 * longest + 64:
-            return None
-    return ([top * (low // bottom) for top, bottom in row], low)
+    """The row, its tops over one bottom, that bottom, and how many bits the longest of its own bottoms has."""
+    low = shared_bottom(row)
+    return row, raised(row, low), low, max([bottom.bit_length() for top, bottom in row], default=1)
 
 
 def weighed_lifted(one, other):
-    tops, low = one
-    other_tops, other_low = other
+    # Over one bottom a weighing is reckoned in whole numbers and brought to lowest terms but once;
+    # where the bottoms share little this no longer pays, for their product grows with each of them.
+    row, tops, low, longest = one
+    other_row, other_tops, other_low, other_longest = other
+    if low.bit_length() + other_low.bit_length() > 4 * (longest + other_longest) + 128:
+        return weighed(row, other_row)
     return frac(sum([left * right for left, right in zip(tops, other_tops)]), low * other_low)
+
+
+def shared_bottom(row):
+    """The least whole number from 1 on that each bottom of the row divides."""
+    low = 1
+    for top, bottom in row:
+        low = low // common(low, bottom) * bottom
+    return low
+
+
+def raised(row, low):
+    """The row's tops, where all its numbers stand over this bottom."""
+    return [top * (low // bottom) for top, bottom in row]
 
 
 def unit(many):

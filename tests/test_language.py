@@ -120,6 +120,59 @@ class Form(unittest.TestCase):
             if node.name not in SPECIAL:
                 self.assertFalse(node.name.startswith("_") or hasattr(builtins, node.name), (name, node.name))
 
+    def test_no_name_is_given_that_is_drawn_in_or_a_class(self):
+        for file, tree in self.trees.items():
+            taken = {drawn.name for node in tree.body if isinstance(node, ast.ImportFrom) for drawn in node.names}
+            taken |= {node.name for node in tree.body if isinstance(node, ast.ClassDef)}
+            given = [node.id for node in ast.walk(tree) if isinstance(node, ast.Name) and isinstance(node.ctx, ast.Store)]
+            given += [node.arg for node in ast.walk(tree) if isinstance(node, ast.arg)]
+            self.assertFalse(taken & set(given), file)
+
+    def test_no_name_is_a_method_and_a_value(self):
+        values = {node.attr for name, node in self.nodes(ast.Attribute) if isinstance(node.ctx, ast.Store)}
+        self.assertFalse(values & own_methods(self.trees.values()))
+        called = {id(node.func) for name, node in self.nodes(ast.Call)}
+        for name, node in self.nodes(ast.Attribute):
+            if id(node) not in called:
+                self.assertIn(node.attr, values, name)
+
+    def test_own_names_as_they_are_called(self):
+        kinds = {"int", "str", "bool", "bytes", "list", "tuple", "dict"} | {
+            node.name for name, node in self.nodes(ast.ClassDef)}
+        for name, node in self.nodes(ast.Call):
+            if isinstance(node.func, ast.Name) and node.func.id == "isinstance":
+                asked = node.args[1].elts if isinstance(node.args[1], ast.Tuple) else [node.args[1]]
+                self.assertTrue({kind.id for kind in asked} <= kinds, name)
+        called = {id(node.func) for name, node in self.nodes(ast.Call)} | {
+            id(kind) for name, node in self.nodes(ast.Call) if isinstance(node.func, ast.Name)
+            and node.func.id == "isinstance" for kind in ast.walk(node.args[1])} | {
+            id(base) for name, node in self.nodes(ast.ClassDef) for base in node.bases} | {
+            id(node.type) for name, node in self.nodes(ast.ExceptHandler)}
+        for name, node in self.nodes(ast.Name):
+            if node.id in OWN_NAMES:
+                self.assertIn(id(node), called, (name, node.id))
+
+    def test_what_is_walked_at_once_is_not_kept(self):
+        walked = set()
+        for name, node in self.nodes((ast.For, ast.comprehension)):
+            walked.add(id(node.iter))
+        for name, node in self.nodes(ast.Call):
+            if isinstance(node.func, ast.Name):
+                walked |= {id(thing) for thing in node.args}
+        for name, node in self.nodes(ast.Call):
+            asked = node.func.id if isinstance(node.func, ast.Name) else getattr(node.func, "attr", "")
+            if asked in ("zip", "enumerate", "reversed", "range", "items", "keys", "values"):
+                self.assertIn(id(node), walked, (name, node.lineno))
+
+    def test_no_files_draw_from_one_another(self):
+        drawn = {"echohouse." + file.stem: {node.module for node in tree.body if isinstance(node, ast.ImportFrom)}
+                 for file, tree in self.trees.items()}
+        while drawn:
+            free = [name for name, others in drawn.items() if not others & set(drawn)]
+            self.assertTrue(free, drawn)
+            for name in free:
+                del drawn[name]
+
     def test_methods(self):
         own = own_methods(self.trees.values())
         for name, node in self.nodes(ast.Call):

@@ -9,32 +9,7 @@ from echohouse.tables import (
     is_row, is_table, noughts, power, product, row_scaled, row_sum, table_scaled, table_sum, turned, unit, weighed,
     widened,
 )
-
-NOUGHT = (0, 1)
-LONG = 7 ** 473
-THIRTY = 10 ** 29 + 7
-
-NO_LISTS = (None, True, False, 0, 1, 2, "", "ab", b"", b"ab", (), ((1, 1), (1, 1)), {}, {"a": 1}, set(), 1.5, object())
-NO_NUMBERS = (None, True, 0, 1, "1", [1, 2], (2, 4), (1, 0), (1, -2), (1,), (1, 2, 3), (True, 1), (1, True), [], ())
-
-
-def row_of(*numbers):
-    """A row out of whole numbers and texts like 3/4."""
-    return [(Fraction(number).numerator, Fraction(number).denominator) for number in numbers]
-
-
-def table_of(*rows):
-    return [row_of(*row) for row in rows]
-
-
-def mixed(many, wide, seed):
-    """A table with numbers that differ from place to place, noughts and numbers below 0 among them."""
-    numbers = []
-    for place in range(many * wide):
-        seed = (seed * 1103515245 + 12345) & 0x7FFFFFFF
-        numbers.append(frac((seed >> 8) % 41 - 20, (seed >> 16) % 12 + 1))
-    return [numbers[row * wide:(row + 1) * wide] for row in range(many)]
-
+from helpers import LONG, NOUGHT, NO_LISTS, NO_NUMBERS, THIRTY, lists_in, mixed, plain, row_of, table_of
 
 def apart(many, wide):
     """A table with long bottoms that share little."""
@@ -52,10 +27,6 @@ def plain_product(one, other, wide):
         ]
         for row in one
     ]
-
-
-def plain(table):
-    return [[Fraction(*number) for number in row] for row in table]
 
 
 class Kinds(unittest.TestCase):
@@ -260,13 +231,6 @@ def calls():
         (widened, [table, wider]), (widened, [table, table]), (widened, [table, [[], [], []]]),
         (widened, [[[], [], []], table]), (widened, [[[], []], [[], []]]),
     ]
-
-
-def lists_in(thing):
-    """All lists in a thing, itself too."""
-    if not isinstance(thing, list):
-        return []
-    return [thing] + [inner for item in thing for inner in lists_in(item)]
 
 
 class OwnLists(unittest.TestCase):
