@@ -12,6 +12,11 @@ def is_whole(thing):
     return isinstance(thing, int) and not isinstance(thing, bool)
 
 
+def is_whole_below(thing, many):
+    """Whether the thing is a whole number from 0 to one less than many."""
+    return is_whole(thing) and 0 <= thing < many
+
+
 def is_fraction(thing):
     if not isinstance(thing, tuple) or len(thing) != 2:
         return False

@@ -1,7 +1,7 @@
 """What runs refuse, the same for all things that are run."""
 
 from echohouse.errors import NoFit, NoTurns
-from echohouse.fracs import is_whole
+from echohouse.fracs import is_whole_below
 from echohouse.tables import is_row
 
 MOST_TURNS = 60
@@ -18,5 +18,5 @@ def refuse_run(cells, ins, start, inputs):
 
 
 def refuse_many(many):
-    if not is_whole(many) or not 0 <= many <= MOST_TURNS:
+    if not is_whole_below(many, MOST_TURNS + 1):
         raise NoTurns("how many is no whole number from 0 to 60")

@@ -5,6 +5,7 @@ from fractions import Fraction
 
 from echohouse.fracs import frac
 from echohouse.systems import System
+from echohouse.tables import noughts, product, turned, widened
 
 NOUGHT = (0, 1)
 LONG = 7 ** 473
@@ -63,6 +64,11 @@ def plain_rank(table):
     return rank
 
 
+def plain_firsts(table):
+    """The places of the rows that are no sums of rows ahead of them, by plain clearing."""
+    return [at for at in range(len(table)) if plain_rank(table[:at + 1]) > plain_rank(table[:at])]
+
+
 def no_rows(many):
     """Things that are no rows of so many fractions."""
     right = mixed(1, many, 3)[0]
@@ -90,6 +96,36 @@ def no_tables(many, wide):
 def system_of(cells, ins, outs, seed):
     return System(mixed(cells, cells, seed), mixed(cells, ins, seed + 1), mixed(outs, cells, seed + 2),
                   mixed(outs, ins, seed + 3))
+
+
+def other_cells(system):
+    """The same box, told by sums of its cells: each cell and all ahead of it."""
+    cells = system.cells()
+    mix = [[(1, 1) if column <= row else NOUGHT for column in range(cells)] for row in range(cells)]
+    back = [[(1, 1) if column == row else (-1, 1) if column == row - 1 else NOUGHT for column in range(cells)]
+            for row in range(cells)]
+    move, push, look, through = system.tables()
+    return System(product(mix, product(move, back, cells), cells), product(mix, push, system.ins()),
+                  product(look, back, cells), through)
+
+
+def more_cells(system, unseen, unmoved, seed):
+    """An alike box with so many cells more that nobody looks at, and so many more that nothing pushes."""
+    cells, ins, outs = system.cells(), system.ins(), system.outs()
+    many = cells + unseen + unmoved
+    move, push, look, through = system.tables()
+    rows = [row + [NOUGHT] * unseen + far for row, far in zip(move, mixed(cells, unmoved, seed))]
+    rows += mixed(unseen, many, seed + 1)
+    rows += widened(noughts(unmoved, cells + unseen), mixed(unmoved, unmoved, seed + 2))
+    looks = [row + [NOUGHT] * unseen + far for row, far in zip(look, mixed(outs, unmoved, seed + 3))]
+    return System(rows, push + mixed(unseen, ins, seed + 4) + noughts(unmoved, ins), looks, through)
+
+
+def turned_over(system):
+    """The box whose tables are the turned ones, so that lines in and out change their places."""
+    move, push, look, through = system.tables()
+    cells, ins = system.cells(), system.ins()
+    return System(turned(move, cells), turned(look, cells), turned(push, ins), turned(through, ins))
 
 
 def sizes(most=8):

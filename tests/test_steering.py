@@ -9,8 +9,8 @@ from echohouse.steering import Finding, Inputs, Unmoved, reach_count, reach_tabl
 from echohouse.systems import System, run
 from echohouse.tables import is_row, is_table, noughts, power, product, turned, unit, weighed, widened
 from helpers import (
-    LONG, NOUGHT, holds_point_six, mixed, no_rows, no_tables, plain_rank, row_of, sizes, spoil, system_of, table_of,
-    times_row,
+    LONG, NOUGHT, holds_point_six, mixed, no_rows, no_tables, other_cells, plain_rank, row_of, sizes, spoil, system_of,
+    table_of, times_row,
 )
 
 # The second cell is never moved.
@@ -33,12 +33,7 @@ def partly(cells, moved, ins):
     for row in move[moved:]:
         row[:moved] = [NOUGHT] * moved
     push = mixed(moved, ins, 9) + noughts(cells - moved, ins)
-    # By a table of ones up to each place, and the one that undoes it.
-    mix = [[(1, 1) if column <= row else NOUGHT for column in range(cells)] for row in range(cells)]
-    back = [[(1, 1) if column == row else (-1, 1) if column == row - 1 else NOUGHT for column in range(cells)]
-            for row in range(cells)]
-    return System(product(mix, product(move, back, cells), cells), product(mix, push, ins), mixed(1, cells, 3),
-                  noughts(1, ins))
+    return other_cells(System(move, push, mixed(1, cells, 3), noughts(1, ins)))
 
 
 def systems():
