@@ -1,8 +1,9 @@
-"""The greatest common divisor of whole numbers, also of very long ones."""
+"""Whole numbers, also very long ones: what divides them both, and what is left when it is divided out."""
 
 # Up to so many bits the plain way is the quicker one.
 SHORT = 4000
 SHORT_HALF = 256
+SHORT_QUOTIENT = 8000
 
 
 def common(one, other):
@@ -71,3 +72,30 @@ def factors_joined(further, factors):
     a, b, c, d = factors
     e, f, g, h = further
     return (e * a + f * c, e * b + f * d, g * a + h * c, g * b + h * d)
+
+
+def divided(numbers, by):
+    """The whole numbers, each of which the other one divides without a rest, divided by it."""
+    if by.bit_length() < SHORT_QUOTIENT:
+        return [number // by for number in numbers]
+    bits = max([number.bit_length() for number in numbers], default=0) - by.bit_length() + 2
+    if bits < SHORT_QUOTIENT:
+        return [number // by for number in numbers]
+    # Where there is no rest the lowest bits alone tell the quotient, as a product; Python's own division of
+    # numbers so long takes many times as long as that.
+    shift = (by & -by).bit_length() - 1
+    inverse = low_inverse(by >> shift, bits)
+    mask = (1 << bits) - 1
+    lows = [((number >> shift & mask) * inverse) & mask for number in numbers]
+    return [low if low >> (bits - 1) == 0 else low - mask - 1 for low in lows]
+
+
+def low_inverse(odd, bits):
+    """The number whose product with the odd one has 1 as its lowest bits."""
+    # Each odd number, times itself, ends with the bits 001; and each further step makes twice as many right.
+    inverse, right = odd & 7, 3
+    while right < bits:
+        right = min(2 * right, bits)
+        mask = (1 << right) - 1
+        inverse = inverse * (2 - (odd & mask) * inverse) & mask
+    return inverse

@@ -1,6 +1,6 @@
 """Exact fractions, as tuples (top, bottom) in lowest terms, and their texts."""
 
-from echohouse.divisors import common
+from echohouse.divisors import SHORT_QUOTIENT, common, divided
 from echohouse.errors import NoFraction
 
 NOUGHT = (0, 1)
@@ -30,7 +30,10 @@ def frac(top, bottom):
     shared = common(top, bottom)
     if bottom < 0:
         shared = -shared
-    return (top // shared, bottom // shared)
+    # Most numbers are short, and this is reckoned often.
+    if shared.bit_length() < SHORT_QUOTIENT:
+        return (top // shared, bottom // shared)
+    return tuple(divided([top, bottom], shared))
 
 
 def plus(one, other):

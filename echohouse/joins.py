@@ -6,7 +6,7 @@ What would have too many cells is refused where the system is made of its tables
 from echohouse.errors import NoFit, NoTable
 from echohouse.solving import inverse
 from echohouse.systems import System
-from echohouse.tables import is_table, noughts, product, table_scaled, table_sum, unit, widened
+from echohouse.tables import is_table, noughts, product, table_less, table_scaled, table_sum, unit, widened
 
 LESS = (-1, 1)
 
@@ -45,7 +45,7 @@ def fed_back(system, table):
     if not is_table(table, ins, outs):
         raise NoTable("the table has not a row for each line in and a number for each line out")
     move, push, look, through = system.tables()
-    by_input = inverse(table_sum(unit(ins), table_scaled(LESS, product(table, through, ins))))
+    by_input = inverse(table_less(unit(ins), product(table, through, ins)))
     by_state = product(product(by_input, table, outs), look, cells)
     next_move, next_push = driven(move, push, by_state, by_input)
     next_look, next_through = driven(look, through, by_state, by_input)

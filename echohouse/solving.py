@@ -1,6 +1,6 @@
 """Tables solved for an aim, their first rows, inverses, determinants and still rows."""
 
-from echohouse.divisors import common
+from echohouse.divisors import common, divided
 from echohouse.errors import Flat
 from echohouse.fracs import NOUGHT, frac
 from echohouse.tables import applied, is_nought, is_row, product, raised, shared_bottom, turned, weighed
@@ -77,11 +77,15 @@ def determinant(table):
 
 
 def still(table, wide):
+    found = stills(table, wide)
+    return found[0] if found else None
+
+
+def stills(table, wide):
+    """As many still rows as can be of which none is a sum of the others: so each still row is a sum of them."""
     many = len(table)
-    for place, row in cleared_rows(tracked(turned(table, wide)), many):
-        if place is None:
-            return shortened(row[many:])
-    return None
+    steps = cleared_rows(tracked(turned(table, wide)), many)
+    return [shortened(row[many:]) for place, row in steps if place is None]
 
 
 def tracked(table):
@@ -113,7 +117,7 @@ def cleared(row, kept):
     ahead = 1
     for place, other in kept:
         here, there = other[place], row[place]
-        row = [(here * number - there * less) // ahead for number, less in zip(row, other)]
+        row = divided([here * number - there * less for number, less in zip(row, other)], ahead)
         ahead = here
     return row
 
@@ -144,7 +148,7 @@ def brought(kept, wide, column):
     tops = [0 for place in range(wide)]
     for place, row in reversed(kept):
         rest = low * row[column] - sum([left * right for left, right in zip(row, tops)])
-        tops[place] = rest // row[place]
+        tops[place] = divided([rest], row[place])[0]
     return [frac(top, low) for top in tops]
 
 
@@ -163,4 +167,4 @@ def shortened(numbers):
     shared = 0
     for number in numbers:
         shared = common(shared, number)
-    return [(number // shared, 1) for number in numbers]
+    return [(number, 1) for number in divided(numbers, shared)]

@@ -1,7 +1,7 @@
 """Rows and tables of fractions: what they weigh, their sums, products and powers."""
 
 from echohouse.divisors import common
-from echohouse.fracs import NOUGHT, ONE, frac, is_fraction, plus, times
+from echohouse.fracs import NOUGHT, ONE, frac, is_fraction, minus, plus, times
 
 
 def is_row(thing, many):
@@ -28,6 +28,10 @@ def is_nought(row):
     return all([number == NOUGHT for number in row])
 
 
+def is_nought_table(table):
+    return all([is_nought(row) for row in table])
+
+
 def row_sum(one, other):
     return [plus(left, right) for left, right in zip(one, other)]
 
@@ -38,6 +42,11 @@ def row_scaled(by, row):
 
 def table_sum(one, other):
     return [row_sum(left, right) for left, right in zip(one, other)]
+
+
+def table_less(one, other):
+    """The one less the other, place by place."""
+    return [[minus(left, right) for left, right in zip(row, away)] for row, away in zip(one, other)]
 
 
 def table_scaled(by, table):

@@ -1,9 +1,9 @@
-"""The greatest common divisor, on which all lowest terms hang (points 2 and 10), also of very long numbers."""
+"""Common divisors and what is left without them, on which all lowest terms hang (points 2 and 10), of long numbers."""
 
 import unittest
 from math import gcd
 
-from echohouse.divisors import SHORT, common, half
+from echohouse.divisors import SHORT, SHORT_QUOTIENT, common, divided, half
 
 
 def number(bits, seed):
@@ -69,6 +69,33 @@ class Half(unittest.TestCase):
             for seed in range(6):
                 one, other = number(bits, seed), number(bits - seed * bits // 8, seed + 50)
                 self.holds(one, other)
+
+
+class Divided(unittest.TestCase):
+    def test_short_numbers(self):
+        for by in (1, -1, 2, 3, -8, 10 ** 29):
+            for quotient in (0, 1, -1, 7, -12, 10 ** 30):
+                self.assertEqual(divided([quotient * by, by, 0], by), [quotient, 1, 0])
+        self.assertEqual(divided([], 5), [])
+
+    def test_long_numbers(self):
+        lengths = (SHORT_QUOTIENT - 3, SHORT_QUOTIENT, SHORT_QUOTIENT + 1, 2 * SHORT_QUOTIENT + 7, 5 * SHORT_QUOTIENT)
+        for bits in lengths:
+            for length in lengths:
+                for shift in (0, 1, 64, 999):
+                    by = (number(bits, 3) | 1) << shift
+                    quotients = [0, 1, -1, number(length, 4), -number(length, 5), number(length, 6) << 77, number(90, 7)]
+                    for sign in (1, -1):
+                        self.assertEqual(divided([one * by * sign for one in quotients], by * sign), quotients)
+                        self.assertEqual(divided([one * by * sign for one in quotients], by),
+                                         [one * sign for one in quotients])
+
+    def test_quotients_of_all_ones_and_of_a_single_one(self):
+        for bits in range(SHORT_QUOTIENT - 2, SHORT_QUOTIENT + 4):
+            for by in ((1 << SHORT_QUOTIENT) - 1, (1 << SHORT_QUOTIENT) + 1, 3 << SHORT_QUOTIENT, number(9000, 2) | 1):
+                for quotient in ((1 << bits) - 1, 1 << bits, (1 << bits) + 1):
+                    for sign in (1, -1):
+                        self.assertEqual(divided([quotient * by * sign], by), [quotient * sign])
 
 
 if __name__ == "__main__":
