@@ -98,8 +98,8 @@ def steps_of(table):
 
 
 def is_positive(table):
-    steps = steps_of(table)
-    return len(steps) == len(table) and all([below(NOUGHT, step) for step in steps])
+    # The steps end early only with one that is not above nought.
+    return all([below(NOUGHT, step) for step in steps_of(table)])
 
 
 def echo(system):

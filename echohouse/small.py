@@ -51,19 +51,15 @@ def corner(system):
 
 
 def seen(system, tell):
-    """What the rows weigh states of which all that can be steered to are sums."""
-    # These rows are sums of one another by the very numbers by which those of the answers' table are, whose columns
-    # are just such weighings; but they are far shorter.
-    states = reached_states(system)
-    return product(tell, turned(states, system.cells()), len(states))
-
-
-def reached_states(system):
-    """As few states as can be, of which all that can be steered to are sums."""
+    """Rows that are sums of one another by the very numbers by which those of the answers' table are."""
+    # The columns of the answers' table are what the rows told here weigh the states that single 1s lead to. Fewer
+    # states do as well, of which all those are sums; and where these are all states, the rows told do themselves.
     cells = system.cells()
-    columns = turned(reach_table(system), cells * system.ins())
-    firsts = first_rows(columns)
-    return unit(cells) if len(firsts) == cells else [columns[place] for place in firsts]
+    reached = turned(reach_table(system), cells * system.ins())
+    firsts = first_rows(reached)
+    if len(firsts) == cells:
+        return tell
+    return product(tell, turned([reached[place] for place in firsts], cells), len(firsts))
 
 
 def by_firsts(rows, firsts, place):

@@ -43,17 +43,22 @@ class Never(Answer):
 
 def first_rows(table):
     wide = len(table[0]) if table else 0
-    steps = cleared_rows([raised(row, shared_bottom(row)) for row in table], wide)
+    steps = cleared_rows(whole_rows(table), wide)
     return [at for at, (place, row) in enumerate(steps) if place is not None]
 
 
 def solved(table, wide, aim):
     joint = [row + [number] for row, number in zip(table, aim)]
-    steps = cleared_rows(tracked(joint), wide)
-    for place, row in steps:
-        if place is None and row[wide] != 0:
-            return Never(shortened(row[wide + 1:]))
-    return Solution(brought(kept_steps(steps), wide, wide))
+    steps = cleared_rows(whole_rows(joint), wide)
+    if not left_over(steps, wide):
+        return Solution(brought(kept_steps(steps), wide, wide))
+    # How the rows make it is tracked only where it must be told, for that takes as long again.
+    return Never(shortened(left_over(cleared_rows(tracked(joint), wide), wide)[0][wide + 1:]))
+
+
+def left_over(steps, wide):
+    """The rows that are cleared up to wide but not there."""
+    return [row for place, row in steps if place is None and row[wide] != 0]
 
 
 def inverse(table):
@@ -86,6 +91,11 @@ def stills(table, wide):
     many = len(table)
     steps = cleared_rows(tracked(turned(table, wide)), many)
     return [shortened(row[many:]) for place, row in steps if place is None]
+
+
+def whole_rows(table):
+    """The rows in whole numbers."""
+    return [raised(row, shared_bottom(row)) for row in table]
 
 
 def tracked(table):

@@ -6,13 +6,13 @@ from copy import deepcopy
 from boxes import DELAY, ECHO, EMPTY, GROWING, all_boxes, of_no_use
 from echohouse.alike import Alike, Likeness, Unlike, alike
 from echohouse.errors import NoFit
-from echohouse.joins import beside, in_row
+from echohouse.joins import beside
 from echohouse.small import carried, small
 from echohouse.steering import reach_table
 from echohouse.systems import System, answers
 from echohouse.tables import noughts, unit
 from helpers import (
-    LONG, NO_LISTS, NOUGHT, lists_in, mixed, more_cells, no_tables, other_cells, row_of, sizes, system_of, table_of,
+    LONG, NO_LISTS, NOUGHT, lists_in, mixed, more_cells, no_tables, other_cells, sizes, system_of, table_of,
 )
 
 # What a turn, a line out or a line in never is.

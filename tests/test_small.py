@@ -11,7 +11,7 @@ from echohouse.systems import System, answers, run
 from echohouse.tables import is_table, noughts, power, product, unit
 from echohouse.telling import tell_count
 from helpers import (
-    LONG, NOUGHT, holds_point_six, lists_in, mixed, more_cells, other_cells, plain_firsts, plain_rank, row_of, sizes,
+    LONG, NOUGHT, holds_point_six, lists_in, mixed, more_cells, other_cells, plain_firsts, plain_rank, sizes,
     system_of, table_of, times_row,
 )
 
