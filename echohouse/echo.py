@@ -1,7 +1,7 @@
 """Whether the echo of what a system holds dies out, and what shows it."""
 
 from echohouse.errors import NoTable, TooMany
-from echohouse.fracs import NOUGHT, ONE, below, frac
+from echohouse.fracs import LESS, NOUGHT, ONE, below, frac
 from echohouse.solving import cleared, solved, still
 from echohouse.steering import refuse_aim
 from echohouse.tables import (
@@ -10,7 +10,6 @@ from echohouse.tables import (
 )
 from echohouse.turns import refuse_many
 
-LESS = (-1, 1)
 MOST_CELLS = 4
 
 

@@ -5,6 +5,7 @@ from echohouse.errors import NoFraction
 
 NOUGHT = (0, 1)
 ONE = (1, 1)
+LESS = (-1, 1)
 MOST_FIGURES = 30
 
 

@@ -4,11 +4,10 @@ What would have too many cells is refused where the system is made of its tables
 """
 
 from echohouse.errors import NoFit, NoTable
+from echohouse.fracs import LESS
 from echohouse.solving import inverse
 from echohouse.systems import System
 from echohouse.tables import is_table, noughts, product, table_less, table_scaled, table_sum, unit, widened
-
-LESS = (-1, 1)
 
 
 def in_row(one, other):
